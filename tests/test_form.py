@@ -1,0 +1,128 @@
+"""The form of the package: what of its rules a test can see in its files."""
+
+import ast
+import pathlib
+import unittest
+
+import whilebusy
+
+FOLDER = pathlib.Path(whilebusy.__file__).parent
+FILES = sorted(FOLDER.glob("*.py"))
+BUILTINS = {
+    "len", "range", "enumerate", "zip", "min", "max", "sum", "abs", "sorted", "reversed", "int", "str", "bool", "list",
+    "tuple", "dict", "set", "isinstance", "repr", "any", "all", "ValueError",
+}
+METHODS = {"append", "pop", "extend", "count", "get", "index", "items", "join", "copy", "split"}
+DEFINED = {
+    "errors": {"SignError", "InvalidHouse", "InvalidText", "InvalidCommand"},
+    "houses": {"is_house", "is_condition", "named", "busy_of", "is_crowded"},
+    "runs": {"is_run", "state_after", "holds", "possible_events"},
+}
+PLAIN_NODES = (ast.Constant, ast.Tuple, ast.List, ast.Dict, ast.UnaryOp, ast.USub, ast.Load)
+
+
+def names_bound(tree):
+    """The names that a file binds at its top."""
+    found = []
+    for node in tree.body:
+        if isinstance(node, (ast.FunctionDef, ast.ClassDef)):
+            found.append(node.name)
+        elif isinstance(node, ast.ImportFrom):
+            found.extend(alias.asname or alias.name for alias in node.names)
+        elif isinstance(node, ast.Assign):
+            found.extend(target.id for target in node.targets)
+    return found
+
+
+class Form(unittest.TestCase):
+    def each(self):
+        for path in FILES:
+            text = path.read_text(encoding="utf-8")
+            with self.subTest(file=path.name):
+                yield path, text, ast.parse(text)
+
+    def test_the_folder_holds_nothing_else(self):
+        others = [path.name for path in FOLDER.iterdir() if path not in FILES and path.name != "__pycache__"]
+        self.assertEqual(others, [])
+
+    def test_lines_and_characters(self):
+        for _, text, _ in self.each():
+            lines = text.split("\n")
+            self.assertLessEqual(len(lines), 400)
+            self.assertLessEqual(max(len(line) for line in lines), 120)
+            self.assertTrue(all(sign == "\n" or " " <= sign <= "~" for sign in text))
+
+    def test_functions_are_short_and_undecorated(self):
+        for _, _, tree in self.each():
+            for node in ast.walk(tree):
+                if isinstance(node, ast.FunctionDef):
+                    self.assertLessEqual(node.end_lineno - node.lineno + 1, 40)
+                    self.assertEqual(node.decorator_list, [])
+
+    def test_imports(self):
+        for _, _, tree in self.each():
+            for node in ast.walk(tree):
+                self.assertNotIsInstance(node, ast.Import)
+                if isinstance(node, ast.ImportFrom):
+                    self.assertTrue(node.module.startswith("whilebusy."), node.module)
+                    self.assertEqual(node.level, 0)
+                    told = ast.parse((FOLDER / (node.module.split(".")[1] + ".py")).read_text(encoding="utf-8"))
+                    for alias in node.names:
+                        self.assertIsNone(alias.asname)
+                        self.assertIn(alias.name, names_bound(told))
+                    self.assertIn(node, tree.body)
+
+    def test_each_name_is_bound_once_and_used(self):
+        for _, _, tree in self.each():
+            bound = names_bound(tree)
+            self.assertEqual(len(bound), len(set(bound)))
+            used = {node.id for node in ast.walk(tree) if isinstance(node, ast.Name)}
+            imported = [alias.name for node in tree.body if isinstance(node, ast.ImportFrom) for alias in node.names]
+            self.assertEqual(set(imported) - used, set())
+
+    def test_plain_values_at_the_top(self):
+        for _, _, tree in self.each():
+            for node in tree.body:
+                self.assertIsInstance(node, (ast.Expr, ast.ImportFrom, ast.FunctionDef, ast.ClassDef, ast.Assign))
+                if isinstance(node, ast.Expr):
+                    self.assertIsInstance(node.value, ast.Constant)
+                if isinstance(node, ast.Assign):
+                    self.assertTrue(all(isinstance(part, PLAIN_NODES) for part in ast.walk(node.value)))
+
+    def test_no_words_outside_of_the_language(self):
+        barred = (ast.GeneratorExp, ast.Lambda, ast.Global, ast.AsyncFunctionDef, ast.Div, ast.Set, ast.AnnAssign)
+        for _, _, tree in self.each():
+            for node in ast.walk(tree):
+                self.assertNotIsInstance(node, barred)
+                if isinstance(node, ast.Constant):
+                    self.assertNotIsInstance(node.value, (float, complex))
+                    self.assertNotIn("%", str(node.value))
+
+    def test_calls(self):
+        for _, _, tree in self.each():
+            own = set(names_bound(tree)) | BUILTINS
+            for node in ast.walk(tree):
+                if isinstance(node, ast.Call) and isinstance(node.func, ast.Name):
+                    self.assertIn(node.func.id, own)
+                elif isinstance(node, ast.Call):
+                    self.assertIn(node.func.attr, METHODS | {"__init__"})
+
+    def test_no_own_name_is_one_of_python(self):
+        for _, _, tree in self.each():
+            names = set(names_bound(tree))
+            for node in ast.walk(tree):
+                if isinstance(node, ast.arg):
+                    names.add(node.arg)
+                elif isinstance(node, ast.Name) and isinstance(node.ctx, ast.Store):
+                    names.add(node.id)
+            self.assertEqual(names & set(dir(__import__("builtins"))), set())
+
+    def test_the_interface_is_defined_in_its_file(self):
+        for name, expected in DEFINED.items():
+            tree = ast.parse((FOLDER / (name + ".py")).read_text(encoding="utf-8"))
+            defined = {node.name for node in tree.body if isinstance(node, (ast.FunctionDef, ast.ClassDef))}
+            self.assertEqual(expected - defined, set())
+
+
+if __name__ == "__main__":
+    unittest.main()

@@ -1,0 +1,1 @@
+"""Whilebusy: signs that something is under way."""

@@ -151,6 +151,50 @@ def random_condition(chance, house, levels):
     return (word, number, chance.randint(-3, 3)) if word == "above" else (word, number)
 
 
+def well_joined_house(chance, things, kinds, most_steps):
+    """A house of a few places of which most are reached, with a deed or more in each step."""
+    deeds = [part for part in (("add", 0), ("flag", 1), ("flag", 1), ("take", 2), ("take", 2), ("drop", 2),
+                               ("enter", 3), ("leave", 3)) if things[part[1]] > 0]
+    told = []
+    for _ in range(kinds):
+        places = chance.choice((2, 3, 3, 4))
+        steps, met = [], [0]
+        for _ in range(chance.randint(2, most_steps)):
+            first = chance.choice([place for place in met if place < places - 1])
+            second = first + 1 if chance.random() < 0.8 else chance.randint(first + 1, places - 1)
+            met.append(second)
+            done = tuple(random_deed_of(chance, things, *chance.choice(deeds)) for _ in range(chance.randint(1, 3)))
+            steps.append((first, second, done))
+        chance.shuffle(steps)
+        marked = tuple(place for place in range(places) if chance.random() < 0.35)
+        told.append((places, marked, tuple(steps)))
+    return (*things, tuple(told))
+
+
+def random_deed_of(chance, things, word, at):
+    number = chance.randrange(things[at])
+    if word == "add":
+        return word, number, chance.choice((-2, -1, 1, 2))
+    return (word, number, chance.choice((True, False))) if word == "flag" else (word, number)
+
+
+def plain_looks(chance, house):
+    """At most five conditions without others in them, not crowded together."""
+    shared = [("flag", flag) for flag in range(house[1])] + [("held", slot) for slot in range(house[2])]
+    rest = [("some", number) for number in range(house[3])] + [("busy", kind) for kind in range(len(house[4]))]
+    if house[0] > 0:
+        counter = chance.randrange(house[0])
+        rest += [("above", counter, chance.randint(-3, 3)), ("above", counter, chance.randint(-3, 3))]
+    chance.shuffle(shared)
+    chance.shuffle(rest)
+    return (shared[:3] + rest)[:5]
+
+
+def just_so(conditions, values):
+    """The condition that just those of the conditions hold that have the value True."""
+    return "and", tuple(part if value else ("not", part) for part, value in zip(conditions, values))
+
+
 def runs_to_all_states(house, most_works):
     """A run to each state that so many works can lead to; runs to equal states go on alike."""
     waiting = [[]]

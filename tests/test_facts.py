@@ -4,6 +4,7 @@ import unittest
 
 from tests.samples import EXAMPLE, EXAMPLE_RUN, random_house, random_run, runs_to_all_states, seeded
 from whilebusy.houses import busy_of
+from whilebusy.reach import same
 from whilebusy.runs import holds, is_run, possible_events, state_after
 
 
@@ -114,6 +115,7 @@ class SameAsBusy(unittest.TestCase):
             busy = busy_of(house)
             right = same_up_to(house, condition, busy, enough)
             self.assertEqual(same_up_to(house, condition, busy, 3), right, house)
+            self.assertIs(same(house, condition, busy), right, house)
             found.append(right)
         self.assertEqual(set(found), {True, False})
 
@@ -143,6 +145,7 @@ class SameAsBusy(unittest.TestCase):
                 expected = all(total >= 1 if marked else total == 0 for marked, total in sums)
             # A work adds at most 4 in such a house: more works cannot be needed to part them.
             self.assertEqual(same_up_to(house, ("above", 0, 0), busy_of(house), 3), expected, house)
+            self.assertIs(same(house, ("above", 0, 0), busy_of(house)), expected, house)
             found.append(expected)
         self.assertEqual(set(found), {True, False})
 

@@ -12,11 +12,24 @@ BUILTINS = {
     "len", "range", "enumerate", "zip", "min", "max", "sum", "abs", "sorted", "reversed", "int", "str", "bool", "list",
     "tuple", "dict", "set", "isinstance", "repr", "any", "all", "ValueError",
 }
-METHODS = {"append", "pop", "extend", "count", "get", "index", "items", "join", "copy", "split"}
+METHODS = {"append", "pop", "extend", "count", "get", "index", "items", "join", "copy", "split", "bit_length"}
+CHANGING = {"append", "pop", "extend", "insert", "remove", "clear", "update", "setdefault", "reverse", "sort", "add"}
+DECORATORS = {"property", "classmethod"}
+# Beside these, signs are used by their operators.
+SIGN_METHODS = {
+    "__init__", "__call__", "__contains__", "__and__", "__or__", "__xor__", "__invert__", "__iand__", "__ior__",
+    "__ixor__", "__eq__", "__ne__", "__le__", "__lt__", "__bool__", "house", "condition", "least", "busy",
+}
 DEFINED = {
     "errors": {"SignError", "InvalidHouse", "InvalidText", "InvalidCommand"},
     "houses": {"is_house", "is_condition", "named", "busy_of", "is_crowded"},
     "runs": {"is_run", "state_after", "holds", "possible_events"},
+    "ways": {"ways", "reached", "way_sums", "way_effects"},
+    "reach": {
+        "fewest_works", "shortest_run", "never", "same", "within", "fewest_parting", "views", "fewest_more",
+        "more_events", "settled_range", "fewest_for", "mended", "least_mends",
+    },
+    "signs": {"Sign", "joined"},
 }
 PLAIN_NODES = (ast.Constant, ast.Tuple, ast.List, ast.Dict, ast.UnaryOp, ast.USub, ast.Load)
 
@@ -32,6 +45,45 @@ def names_bound(tree):
         elif isinstance(node, ast.Assign):
             found.extend(target.id for target in node.targets)
     return found
+
+
+def named_at_the_root(node):
+    """The name of what is changed, if the node is an item of it or it itself."""
+    while isinstance(node, ast.Subscript):
+        node = node.value
+    return ast.unparse(node)
+
+
+def changed_by(function):
+    """The names of what a function changes."""
+    found = set()
+    for node in ast.walk(function):
+        if isinstance(node, ast.Call) and isinstance(node.func, ast.Attribute) and node.func.attr in CHANGING:
+            found.add(named_at_the_root(node.func.value))
+        elif isinstance(node, ast.Subscript) and not isinstance(node.ctx, ast.Load):
+            found.add(named_at_the_root(node))
+        elif isinstance(node, ast.AugAssign) and not isinstance(node.value, ast.Constant):
+            found.add(named_at_the_root(node.target))
+    return found
+
+
+def creates(node):
+    """Whether an expression surely gives a new list or dict."""
+    if isinstance(node, ast.BinOp) and isinstance(node.op, (ast.Add, ast.Mult)):
+        return creates(node.left) or creates(node.right)
+    return isinstance(node, (ast.List, ast.Dict, ast.ListComp, ast.DictComp))
+
+
+def created_by(function):
+    """The local names that are only ever assigned new lists and dicts."""
+    given, other = set(), {argument.arg for argument in function.args.args}
+    for node in ast.walk(function):
+        if isinstance(node, ast.Assign):
+            for target in node.targets:
+                (given if creates(node.value) else other).add(ast.unparse(target))
+        elif isinstance(node, (ast.For, ast.comprehension)):
+            other |= {part.id for part in ast.walk(node.target) if isinstance(part, ast.Name)}
+    return given - other
 
 
 class Form(unittest.TestCase):
@@ -52,12 +104,44 @@ class Form(unittest.TestCase):
             self.assertLessEqual(max(len(line) for line in lines), 120)
             self.assertTrue(all(sign == "\n" or " " <= sign <= "~" for sign in text))
 
-    def test_functions_are_short_and_undecorated(self):
+    def test_functions_are_short_and_plainly_decorated(self):
         for _, _, tree in self.each():
+            plain = [node for node in tree.body if isinstance(node, ast.FunctionDef)]
+            self.assertEqual([node.name for node in plain if node.decorator_list], [])
             for node in ast.walk(tree):
                 if isinstance(node, ast.FunctionDef):
                     self.assertLessEqual(node.end_lineno - node.lineno + 1, 40)
-                    self.assertEqual(node.decorator_list, [])
+                    self.assertLessEqual({name.id for name in node.decorator_list}, DECORATORS)
+
+    def test_functions_change_only_what_they_created(self):
+        for _, _, tree in self.each():
+            for node in ast.walk(tree):
+                if isinstance(node, ast.FunctionDef):
+                    with self.subTest(function=node.name):
+                        self.assertEqual(changed_by(node) - created_by(node), set())
+
+    def test_attributes_are_assigned_by_few(self):
+        for _, _, tree in self.each():
+            for node in ast.walk(tree):
+                if isinstance(node, ast.FunctionDef) and node.name not in ("__init__", "__iand__", "__ior__", "__ixor__"):
+                    stored = [part for part in ast.walk(node) if isinstance(part, ast.Attribute)
+                              and not isinstance(part.ctx, ast.Load)]
+                    self.assertEqual(stored, [])
+
+    def test_no_file_leads_back_to_itself(self):
+        imports = {}
+        for path, _, tree in self.each():
+            imports[path.stem] = {node.module.split(".")[1] for node in tree.body if isinstance(node, ast.ImportFrom)}
+        while imports:
+            free = {name for name, needed in imports.items() if not needed & set(imports)}
+            self.assertTrue(free, imports)
+            for name in free:
+                del imports[name]
+
+    def test_the_methods_of_signs_stand_in_their_class(self):
+        tree = ast.parse((FOLDER / "signs.py").read_text(encoding="utf-8"))
+        [sign] = [node for node in tree.body if isinstance(node, ast.ClassDef)]
+        self.assertEqual(SIGN_METHODS - {node.name for node in sign.body if isinstance(node, ast.FunctionDef)}, set())
 
     def test_imports(self):
         for _, _, tree in self.each():
@@ -100,7 +184,7 @@ class Form(unittest.TestCase):
 
     def test_calls(self):
         for _, _, tree in self.each():
-            own = set(names_bound(tree)) | BUILTINS
+            own = set(names_bound(tree)) | BUILTINS | {"cls"}
             for node in ast.walk(tree):
                 if isinstance(node, ast.Call) and isinstance(node.func, ast.Name):
                     self.assertIn(node.func.id, own)

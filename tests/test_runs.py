@@ -3,6 +3,7 @@
 import inspect
 import unittest
 
+from tests.plain import told, truth
 from tests.samples import DEEP, EXAMPLE, EXAMPLE_RUN, FULL, LEAST, STRANGE
 from tests.samples import random_condition, random_house, random_run, seeded, unchanged
 from whilebusy.errors import InvalidCondition, InvalidHouse, InvalidRun
@@ -25,56 +26,6 @@ def after(*steps):
     """A run of works of kind 0 of PLAIN that do these steps, one work each."""
     run = [("begin", 0) for _ in steps]
     return run + [("go", work, step) for work, step in enumerate(steps)]
-
-
-def told(house, run):
-    """The state behind the run, worked out event by event."""
-    counters, flags, slots = [0] * house[0], [False] * house[1], [None] * house[2]
-    sets = [set() for _ in range(house[3])]
-    works = []
-    for event in run:
-        if event[0] == "begin":
-            works.append((event[1], 0))
-            continue
-        _, work, index = event
-        kind = works[work][0]
-        _, second, deeds = house[4][kind][2][index]
-        works[work] = (kind, second)
-        for word, number, *rest in deeds:
-            if word == "add":
-                counters[number] += rest[0]
-            elif word == "flag":
-                flags[number] = rest[0]
-            elif word == "take":
-                slots[number] = work
-            elif word == "drop":
-                slots[number] = None if slots[number] == work else slots[number]
-            elif word == "enter":
-                sets[number].add(work)
-            else:
-                sets[number].discard(work)
-    return counters, flags, slots, [sorted(names) for names in sets], works
-
-
-def truth(house, state, condition):
-    """Whether a condition holds in a state, worked out from the top down."""
-    word, value = condition[0], condition[1]
-    if word == "say":
-        return value
-    if word == "above":
-        return state[0][value] > condition[2]
-    if word == "flag":
-        return state[1][value]
-    if word == "held":
-        return state[2][value] is not None
-    if word == "some":
-        return state[3][value] != []
-    if word == "busy":
-        return any(kind == value and place in house[4][kind][1] for kind, place in state[4])
-    if word == "not":
-        return not truth(house, state, value)
-    values = [truth(house, state, part) for part in value]
-    return {"and": all(values), "or": any(values), "odd": sum(values) in range(1, len(values) + 1, 2)}[word]
 
 
 class Interface(unittest.TestCase):

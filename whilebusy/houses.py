@@ -1,6 +1,6 @@
 """Houses and their conditions: what is one, and what stands in a condition."""
 
-from whilebusy.errors import InvalidCondition, InvalidHouse
+from whilebusy.errors import InvalidCondition, InvalidCounter, InvalidHouse, InvalidKind, InvalidPlace
 
 # The most counters, flags, slots and sets of a house, in its sequence.
 MOST_THINGS = (2, 4, 3, 2)
@@ -88,6 +88,24 @@ def check_condition(house, condition):
     """Raise InvalidCondition unless the value is a condition of the house."""
     if not is_condition_of(house, condition):
         raise InvalidCondition("this is no condition of the house")
+
+
+def check_kind(house, kind):
+    """Raise InvalidKind unless the value is the number of a kind of the house."""
+    if not is_number(kind, 0, len(house[4]) - 1):
+        raise InvalidKind("this is not the number of a kind of the house")
+
+
+def check_place(house, kind, place):
+    """Raise InvalidPlace unless the value is a place of the kind."""
+    if not is_number(place, 0, house[4][kind][0] - 1):
+        raise InvalidPlace("this is no place of the kind")
+
+
+def check_counter(house, counter):
+    """Raise InvalidCounter unless the value is the number of a counter of the house."""
+    if not is_number(counter, 0, house[0] - 1):
+        raise InvalidCounter("this is not the number of a counter of the house")
 
 
 def is_number(value, least, most):

@@ -190,6 +190,14 @@ def plain_looks(chance, house):
     return (shared[:3] + rest)[:5]
 
 
+def levels(condition):
+    """How many levels deep a condition stands."""
+    if condition[0] not in ("not", "and", "or", "odd"):
+        return 1
+    inner = (condition[1],) if condition[0] == "not" else condition[1]
+    return 1 + max([levels(part) for part in inner], default=0)
+
+
 def just_so(conditions, values):
     """The condition that just those of the conditions hold that have the value True."""
     return "and", tuple(part if value else ("not", part) for part, value in zip(conditions, values))

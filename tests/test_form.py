@@ -10,15 +10,34 @@ FOLDER = pathlib.Path(whilebusy.__file__).parent
 FILES = sorted(FOLDER.glob("*.py"))
 BUILTINS = {
     "len", "range", "enumerate", "zip", "min", "max", "sum", "abs", "sorted", "reversed", "int", "str", "bool", "list",
-    "tuple", "dict", "set", "isinstance", "repr", "any", "all", "ValueError",
+    "tuple", "dict", "set", "isinstance", "repr", "any", "all", "super", "ValueError", "TypeError",
 }
-METHODS = {"append", "pop", "extend", "count", "get", "index", "items", "join", "copy", "split", "bit_length"}
+METHODS = {
+    "append", "pop", "extend", "count", "get", "index", "items", "join", "copy", "split", "bit_length", "partition",
+    "startswith", "isascii", "isdigit",
+}
+OWN_METHODS = {"begin", "undo", "sees", "more", "trying", "_works", "_can_do", "__init__"}
 CHANGING = {"append", "pop", "extend", "insert", "remove", "clear", "update", "setdefault", "reverse", "sort", "add"}
 DECORATORS = {"property", "classmethod"}
-# Beside these, signs are used by their operators.
-SIGN_METHODS = {
-    "__init__", "__call__", "__contains__", "__and__", "__or__", "__xor__", "__invert__", "__iand__", "__ior__",
-    "__ixor__", "__eq__", "__ne__", "__le__", "__lt__", "__bool__", "house", "condition", "least", "busy",
+# The methods and properties that stand in each class itself.
+CLASS_METHODS = {
+    "Sign": {
+        "__init__", "__call__", "__contains__", "__and__", "__or__", "__xor__", "__invert__", "__iand__", "__ior__",
+        "__ixor__", "__eq__", "__ne__", "__le__", "__lt__", "__bool__", "house", "condition", "least", "busy",
+    },
+    "Board": {
+        "__init__", "__getitem__", "__setitem__", "__contains__", "__len__", "__iter__", "begin", "undo", "house", "run",
+        "state", "sees", "more", "twin", "trying", "rehearse",
+    },
+    "CappedBoard": {"__init__", "most", "begin", "twin"},
+    "CountedBoard": {"__init__", "counts", "begin", "twin"},
+    "CappedCountedBoard": {"__init__", "most", "counts", "begin", "twin"},
+    "Console": {"__init__", "execute"},
+}
+# What may assign to attributes, beside __init__: operators and properties do not.
+ASSIGNING = {
+    "signs": {"__iand__", "__ior__", "__ixor__"},
+    "boards": {"begin", "__setitem__", "undo", "twin", "__enter__", "__exit__"},
 }
 DEFINED = {
     "errors": {"SignError", "InvalidHouse", "InvalidText", "InvalidCommand"},
@@ -30,6 +49,9 @@ DEFINED = {
         "more_events", "settled_range", "fewest_for", "mended", "least_mends",
     },
     "signs": {"Sign", "joined"},
+    "boards": {"Board", "CappedBoard", "CountedBoard", "CappedCountedBoard"},
+    "texts": {"write_condition", "read_condition", "write_run", "read_run"},
+    "console": {"Console"},
 }
 PLAIN_NODES = (ast.Constant, ast.Tuple, ast.List, ast.Dict, ast.UnaryOp, ast.USub, ast.Load)
 
@@ -86,6 +108,27 @@ def created_by(function):
     return given - other
 
 
+def functions_in(tree):
+    return [node for node in ast.walk(tree) if isinstance(node, ast.FunctionDef)]
+
+
+def called_by(function):
+    """The names of the functions and methods that a function calls, and of the properties that it reads."""
+    found = {node.attr for node in ast.walk(function) if isinstance(node, ast.Attribute)}
+    found |= {node.func.id for node in ast.walk(function) if isinstance(node, ast.Call)
+              and isinstance(node.func, ast.Name)}
+    return found
+
+
+def is_quiet(function):
+    """Whether a function is an operator or a property that must not change anything."""
+    if function.name in ("__init__", "__call__", "__enter__", "__exit__", "__setitem__"):
+        return False
+    if function.name in ASSIGNING["signs"]:
+        return False
+    return function.name.startswith("__") or "property" in {name.id for name in function.decorator_list}
+
+
 class Form(unittest.TestCase):
     def each(self):
         for path in FILES:
@@ -115,18 +158,57 @@ class Form(unittest.TestCase):
 
     def test_functions_change_only_what_they_created(self):
         for _, _, tree in self.each():
-            for node in ast.walk(tree):
-                if isinstance(node, ast.FunctionDef):
-                    with self.subTest(function=node.name):
-                        self.assertEqual(changed_by(node) - created_by(node), set())
+            for node in functions_in(tree):
+                with self.subTest(function=node.name):
+                    # A board counts in a list of its own, and a console puts its numbers into a board.
+                    left = {"self._counts"} if node.name == "begin" else {"board"}
+                    if node.name not in ("begin", "do_event", "answer"):
+                        left = set()
+                    self.assertEqual(changed_by(node) - created_by(node), left & changed_by(node))
 
     def test_attributes_are_assigned_by_few(self):
-        for _, _, tree in self.each():
-            for node in ast.walk(tree):
-                if isinstance(node, ast.FunctionDef) and node.name not in ("__init__", "__iand__", "__ior__", "__ixor__"):
+        for path, _, tree in self.each():
+            for node in functions_in(tree):
+                if node.name not in ASSIGNING.get(path.stem, set()) | {"__init__"}:
                     stored = [part for part in ast.walk(node) if isinstance(part, ast.Attribute)
                               and not isinstance(part.ctx, ast.Load)]
                     self.assertEqual(stored, [])
+
+    def test_operators_and_properties_lead_to_nothing_that_changes(self):
+        calls = {}
+        for _, _, tree in self.each():
+            for node in functions_in(tree):
+                calls[node.name] = calls.get(node.name, set()) | called_by(node)
+        waiting = [node.name for _, _, tree in self.each() for node in functions_in(tree) if is_quiet(node)]
+        self.assertTrue({"__and__", "__getitem__", "__len__", "__contains__", "state", "counts"} <= set(waiting))
+        met = set()
+        while waiting:
+            name = waiting.pop()
+            if name not in met:
+                met.add(name)
+                waiting.extend(calls.get(name, set()))
+        self.assertEqual(met & {"begin", "undo", "twin", "trying", "rehearse", "do_event", "execute", "Trying"}, set())
+
+    def test_boards_are_not_iterated_over(self):
+        tree = ast.parse((FOLDER / "boards.py").read_text(encoding="utf-8"))
+        [method] = [node for node in functions_in(tree) if node.name == "__iter__"]
+        [row] = method.body
+        self.assertIsInstance(row, ast.Raise)
+        self.assertEqual(row.exc.func.id, "TypeError")
+
+    def test_the_end_of_a_block_is_plain(self):
+        tree = ast.parse((FOLDER / "boards.py").read_text(encoding="utf-8"))
+        [method] = [node for node in functions_in(tree) if node.name == "__exit__"]
+        for row in method.body:
+            self.assertIsInstance(row, ast.Assign)
+            self.assertIsInstance(row.value, ast.Attribute)
+
+    def test_words_that_a_package_with_items_does_not_have(self):
+        for _, text, tree in self.each():
+            for word in ("(type)", "Meta", "metaclass="):
+                self.assertNotIn(word, text)
+            for node in functions_in(tree):
+                self.assertNotEqual(node.name, "keys")
 
     def test_no_file_leads_back_to_itself(self):
         imports = {}
@@ -138,10 +220,14 @@ class Form(unittest.TestCase):
             for name in free:
                 del imports[name]
 
-    def test_the_methods_of_signs_stand_in_their_class(self):
-        tree = ast.parse((FOLDER / "signs.py").read_text(encoding="utf-8"))
-        [sign] = [node for node in tree.body if isinstance(node, ast.ClassDef)]
-        self.assertEqual(SIGN_METHODS - {node.name for node in sign.body if isinstance(node, ast.FunctionDef)}, set())
+    def test_methods_stand_in_their_class(self):
+        met = {}
+        for _, _, tree in self.each():
+            for node in tree.body:
+                if isinstance(node, ast.ClassDef):
+                    met[node.name] = {part.name for part in node.body if isinstance(part, ast.FunctionDef)}
+        for name, methods in CLASS_METHODS.items():
+            self.assertEqual(methods - met[name], set())
 
     def test_imports(self):
         for _, _, tree in self.each():
@@ -189,7 +275,7 @@ class Form(unittest.TestCase):
                 if isinstance(node, ast.Call) and isinstance(node.func, ast.Name):
                     self.assertIn(node.func.id, own)
                 elif isinstance(node, ast.Call):
-                    self.assertIn(node.func.attr, METHODS | {"__init__"})
+                    self.assertIn(node.func.attr, METHODS | OWN_METHODS)
 
     def test_no_own_name_is_one_of_python(self):
         for _, _, tree in self.each():

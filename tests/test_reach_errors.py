@@ -3,7 +3,8 @@
 import copy
 import unittest
 
-from tests.samples import DEEP, EXAMPLE, EXAMPLE_RUN, FULL, LEAST, STRANGE
+from tests.objects import CROWDED, FLAGS, OTHERS, SIGNS, SORE, WRONG, has_object
+from tests.samples import DEEP, EXAMPLE, EXAMPLE_RUN, FULL, LEAST
 from whilebusy import reach
 from whilebusy.errors import (
     Crowded, InvalidCondition, InvalidConditions, InvalidCounter, InvalidHouse, InvalidMends,
@@ -11,15 +12,8 @@ from whilebusy.errors import (
 )
 from whilebusy.houses import is_condition, is_house
 from whilebusy.runs import is_run
-from whilebusy.signs import Sign
 
 FLAG, BUSY, ABOVE = ("flag", 0), ("busy", 0), ("above", 0, 0)
-FLAGS = tuple(("flag", flag) for flag in range(4))
-CROWDED = ("or", FLAGS)
-# A comparison with this one raises an error: wrong values must not be compared at all.
-SORE = Sign(FULL, CROWDED)
-SIGNS = (SORE, [SORE], (SORE, SORE), ("not", SORE), ("flag", SORE), ("and", (SORE,)), [("begin", SORE)], (0, 0, SORE))
-WRONG = STRANGE + DEEP + SIGNS
 
 # Each function, right arguments for FULL or EXAMPLE, and the error of each parameter.
 ERRORS = {
@@ -63,12 +57,8 @@ class OneWrong(unittest.TestCase):
         with self.assertRaises(error) as caught:
             getattr(reach, name)(**arguments)
         self.assertIs(type(caught.exception), error)
-        if not any(self.has_sign(value) for value in arguments.values()):
+        if not any(has_object(value) for value in arguments.values()):
             self.assertEqual(repr(arguments), repr(before))
-
-    def has_sign(self, value):
-        parts = list(value) if isinstance(value, (list, tuple)) and len(value) < 100 else []
-        return isinstance(value, Sign) or any(self.has_sign(part) for part in parts)
 
     def test_any_value_in_each_place(self):
         for name, parameters in FUNCTIONS.items():
@@ -114,8 +104,8 @@ class OneWrong(unittest.TestCase):
         with self.assertRaises(InvalidMends):
             reach.mended(LEAST, [(0, 0, ("add", 0, 1))])
 
-    def test_signs_are_no_other_values(self):
-        for value in SIGNS:
+    def test_objects_are_no_other_values(self):
+        for value in SIGNS + OTHERS:
             self.assertFalse(is_house(value))
             self.assertFalse(is_condition(FULL, value))
             self.assertFalse(is_run(FULL, value))

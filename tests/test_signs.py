@@ -5,7 +5,7 @@ import inspect
 import unittest
 
 from tests.samples import DEEP, EXAMPLE, EXAMPLE_RUN, FULL, LEAST, STRANGE
-from tests.samples import random_condition, random_house, random_run, seeded, well_joined_house
+from tests.samples import levels, random_condition, random_house, random_run, seeded, well_joined_house
 from whilebusy import reach
 from whilebusy.errors import Crowded, InvalidCondition, InvalidHouse, InvalidRun, OtherHouse
 from whilebusy.houses import all_parts, busy_of, is_condition, is_crowded
@@ -28,13 +28,6 @@ def in_place(sign, word, other):
     else:
         sign ^= other
     return sign
-
-
-def levels(condition):
-    if condition[0] not in ("not", "and", "or", "odd"):
-        return 1
-    inner = (condition[1],) if condition[0] == "not" else condition[1]
-    return 1 + max([levels(part) for part in inner], default=0)
 
 
 class Making(unittest.TestCase):

@@ -54,16 +54,22 @@ def works_behind(house, value):
     """Return (kind, place) of each work behind the run, None for any value that is no run."""
     if not isinstance(value, list):
         return None
+    works, many = works_as_far(house, value)
+    return works if many == len(value) else None
+
+
+def works_as_far(house, values):
+    """Return the works behind the first events in a list of any values, and how many can happen so."""
     works = []
-    for event in value:
+    for at, event in enumerate(values):
         if is_begin(house, event):
             works.append((event[1], 0))
         elif is_go(house, works, event):
             kind = works[event[1]][0]
             works[event[1]] = (kind, steps_of(house, kind)[event[2]][1])
         else:
-            return None
-    return works
+            return works, at
+    return works, len(values)
 
 
 def is_begin(house, value):
